@@ -1,0 +1,1 @@
+"""Leastpull: lazy streams that read no more than they must, and can show it."""
