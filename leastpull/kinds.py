@@ -31,6 +31,12 @@ def is_whole(value):
     return isinstance(value, int) and not isinstance(value, bool)
 
 
+def is_within(value, bounds):
+    """True if value is an integer from the first of both bounds to the second one."""
+    lowest, highest = bounds
+    return is_whole(value) and lowest <= value <= highest
+
+
 def inputs_of(node):
     """The tuple of the inputs of a node."""
     return node[2:] if node[0] in OWN_BOUNDS else node[1:]
@@ -47,14 +53,9 @@ def is_node(node):
     inputs = inputs_of(node)
     if len(inputs) != INPUT_COUNTS[kind]:
         return False
-    if kind in OWN_BOUNDS and not _is_within(node[1], OWN_BOUNDS[kind]):
+    if kind in OWN_BOUNDS and not is_within(node[1], OWN_BOUNDS[kind]):
         return False
     return all([is_whole(p) and p >= 0 for p in inputs])
-
-
-def _is_within(value, bounds):
-    least, greatest = bounds
-    return is_whole(value) and least <= value <= greatest
 
 
 def width_of(node, widths_ahead):
